@@ -369,17 +369,21 @@ func fullPoint(k, i, low int) []uint64 {
 	return p
 }
 
+// Of the greatest K there is one node with as many kids as there can be; to put all of them takes some seconds.
+
 func TestAllKidsOfOneNode(t *testing.T) {
-	// As many kids as there are addresses of 16 bits, joined one by one, take long: so many of them do.
-	const kids = 5000
+	const kids = 1 << 16
 	x := mustNew(t, 16)
 	for i := range kids {
-		x = mustPut(t, x, 1, fullPoint(16, i*13, 63)...)
+		x = mustPut(t, x, 1, fullPoint(16, i, 63)...)
 	}
 	wantOne(t, x, kids+1, 2)
-	y := mustPut(t, x, 2, fullPoint(16, 13, 63)...)
-	wantShared(t, x, y, kids-1, 2)
-	wantShared(t, y, mustDel(t, y, fullPoint(16, 13, 63)...), kids-1, 1)
+	for _, i := range []int{0, 13, kids - 1} {
+		p := fullPoint(16, i, 63)
+		y := mustPut(t, x, 2, p...)
+		wantShared(t, x, y, kids-1, 2)
+		wantShared(t, y, mustDel(t, y, p...), kids-1, 1)
+	}
 }
 
 // P17.1, P17.2: versions, each a few steps from the others, held against each other in all pairs.
